@@ -1,0 +1,1 @@
+"""Cornerdrifts: two queues, counted by whole numbers, and whether they come home."""

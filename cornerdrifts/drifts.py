@@ -1,0 +1,72 @@
+"""Drifts of a book's regions, its turns, its border, and whether its walk comes home."""
+
+from cornerdrifts.books import steps_of
+from cornerdrifts.errors import Border
+from cornerdrifts.exact import less, sum_of, times
+
+
+def drift(book, region):
+    """The means of both numbers of the region's steps."""
+    steps = steps_of(book, region)
+    across = sum_of([times((i, 1), chance) for i, _, chance in steps])
+    along = sum_of([times((j, 1), chance) for _, j, chance in steps])
+    return (across, along)
+
+
+def turns(book):
+    """The first turn and the second turn, asked or not."""
+    inside_x, inside_y = drift(book, "inside")
+    first_x, first_y = drift(book, "first")
+    second_x, second_y = drift(book, "second")
+    first_turn = less(times(first_y, inside_x), times(first_x, inside_y))
+    second_turn = less(times(second_x, inside_y), times(second_y, inside_x))
+    return (first_turn, second_turn)
+
+
+def sides_met(book):
+    """The sides to which the drift inside leads, also of a book on a border."""
+    inside_x, inside_y = drift(book, "inside")
+    first = ("first",) if inside_y[0] < 0 else ()
+    second = ("second",) if inside_x[0] < 0 else ()
+    return first + second
+
+
+def border(book):
+    """The word of the book's border, None for a plain book."""
+    inside_x, inside_y = drift(book, "inside")
+    _, first_y = drift(book, "first")
+    second_x, _ = drift(book, "second")
+    if inside_x[0] == 0:
+        return "x"
+    if inside_y[0] == 0:
+        return "y"
+    if first_y[0] == 0:
+        return "first"
+    if second_x[0] == 0:
+        return "second"
+    first_turn, second_turn = turns(book)
+    sides = sides_met(book)
+    if "first" in sides and first_turn[0] == 0:
+        return "first turn"
+    if "second" in sides and second_turn[0] == 0:
+        return "second turn"
+    return None
+
+
+def asked(book):
+    """The sides whose turns are asked; the book must be plain."""
+    word = border(book)
+    if word is not None:
+        raise Border(word)
+    return sides_met(book)
+
+
+def does_come_home(book):
+    """Whether the walk comes home; the book must be plain."""
+    sides = asked(book)
+    first_turn, second_turn = turns(book)
+    if "first" in sides and first_turn[0] > 0:
+        return False
+    if "second" in sides and second_turn[0] > 0:
+        return False
+    return sides != ()
