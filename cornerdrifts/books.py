@@ -141,11 +141,16 @@ def chance_of(book, region, i, j):
     return find_chance(steps, i, j)
 
 
+def mirrored(steps):
+    """The steps with both queues exchanged."""
+    return tuple([(j, i, chance) for i, j, chance in steps])
+
+
 def exchanged(book):
     """The book with both queues exchanged."""
     # What happens where only the first queue waits now happens where only the second one does.
     regions = (book.inside, book.second, book.first, book.none)
-    return book_of([[(j, i, chance) for i, j, chance in steps] for steps in regions])
+    return book_of([mirrored(steps) for steps in regions])
 
 
 def slowed(book, share):

@@ -2,15 +2,19 @@
 
 from cornerdrifts.books import steps_of
 from cornerdrifts.errors import Border
-from cornerdrifts.exact import less, sum_of, times
+from cornerdrifts.exact import less, mean_of, times
+
+
+def drift_of(steps):
+    """The means of both numbers of some steps."""
+    across = mean_of([((i, 1), chance) for i, _, chance in steps])
+    along = mean_of([((j, 1), chance) for _, j, chance in steps])
+    return (across, along)
 
 
 def drift(book, region):
     """The means of both numbers of the region's steps."""
-    steps = steps_of(book, region)
-    across = sum_of([times((i, 1), chance) for i, _, chance in steps])
-    along = sum_of([times((j, 1), chance) for _, j, chance in steps])
-    return (across, along)
+    return drift_of(steps_of(book, region))
 
 
 def turns(book):
@@ -53,20 +57,28 @@ def border(book):
     return None
 
 
-def asked(book):
-    """The sides whose turns are asked; the book must be plain."""
+def check_plain(book):
+    """Raise if the book has a border."""
     word = border(book)
     if word is not None:
         raise Border(word)
+
+
+def asked(book):
+    """The sides whose turns are asked; the book must be plain."""
+    check_plain(book)
     return sides_met(book)
+
+
+def rising(book):
+    """The sides whose turns are asked and above 0; the book must be plain."""
+    sides = asked(book)
+    first_turn, second_turn = turns(book)
+    first = ("first",) if "first" in sides and first_turn[0] > 0 else ()
+    second = ("second",) if "second" in sides and second_turn[0] > 0 else ()
+    return first + second
 
 
 def does_come_home(book):
     """Whether the walk comes home; the book must be plain."""
-    sides = asked(book)
-    first_turn, second_turn = turns(book)
-    if "first" in sides and first_turn[0] > 0:
-        return False
-    if "second" in sides and second_turn[0] > 0:
-        return False
-    return sides != ()
+    return asked(book) != () and rising(book) == ()

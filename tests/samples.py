@@ -42,6 +42,11 @@ def any_values():
     ]
 
 
+def any_but(*known):
+    """Values of any kind but these; (True, 1) is not (1, 1)."""
+    return [value for value in any_values() if repr(value) not in [repr(one) for one in known]]
+
+
 def told(steps):
     """The lines of a region's steps, which are told as (i, j, top, bottom)."""
     lines = []
@@ -110,17 +115,45 @@ class Case(TestCase):
         self.assertEqual(found, wanted)
         self.assertEqual(repr(found), repr(wanted))
 
-    def raises(self, error, call, *args, **named):
+    def raises(self, error, call, /, *args, **named):
         """The value of the error, of just this class, that the call raises."""
         with self.assertRaises(DriftError) as caught:
             call(*args, **named)
         self.assertIs(type(caught.exception), error)
         return caught.exception.value
 
-    def refuses(self, error, value, call, *args, **named):
+    def refuses(self, error, value, call, /, *args, **named):
         """The call raises this error with a value of this kind."""
         self.same(self.raises(error, call, *args, **named), value)
 
-    def refuses_it(self, error, value, call, *args, **named):
+    def refuses_it(self, error, value, call, /, *args, **named):
         """The call raises this error with the very value."""
         self.assertIs(self.raises(error, call, *args, **named), value)
+
+
+# Steps of up to 3 whose drift is (0, 0); they can stand inside beside others.
+LONG_STEPS = [(3, -1, 1, 4), (-1, 3, 1, 4), (-1, -1, 1, 2)]
+
+
+def steered(drift, low_i=-1, low_j=-1, long=False):
+    """Steps with this drift, its numbers Fractions up to 1/8 (and not below what a side allows)."""
+    across, along = drift
+    weights = {}
+    for i, j, size in ((1, 0, across), (0, 1, along)):
+        low = low_i if i else low_j
+        if low == 0:
+            weights[i, j] = size
+        else:
+            weights[i, j], weights[-i, -j] = Fraction(1, 8) + size / 2, Fraction(1, 8) - size / 2
+    rest = 1 - sum(weights.values())
+    if long:
+        for i, j, top, bottom in LONG_STEPS:
+            weights[i, j] = weights.get((i, j), 0) + Fraction(top, bottom) * rest / 2
+        rest = rest / 2
+    weights[0, 0] = rest
+    return [(i, j, *pair_of(weight)) for (i, j), weight in weights.items() if weight]
+
+
+def steered_book(inside, first, second, long=False):
+    """A book whose drifts are these, told as pairs of Fractions."""
+    return book(steered(inside, long=long), steered(first, low_j=0), steered(second, low_i=0))

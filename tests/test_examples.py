@@ -43,6 +43,66 @@ SECTION_5 = r"""
 ['x', ((0, 1), (0, 1))]
 """
 
+SECTION_6 = r"""
+>>> from cornerdrifts.books import Book, exchanged
+>>> from cornerdrifts.home import home, mean_change, shows_home, worth
+>>> rows = ['book', 'inside', 'step 1 0 1/6', 'step 0 1 1/6', 'step -1 0 1/3', 'step 0 -1 1/3', 'first', 'step 1 0 1/6', 'step 0 1 1/6', 'step -1 0 2/3']
+>>> ends = ['second', 'step 1 0 1/6', 'step 0 1 1/6', 'step 0 -1 2/3', 'none', 'step 1 0 1/6', 'step 0 1 1/6', 'step 0 0 2/3']
+>>> pair, zero, half = Book('\n'.join(rows + ends)), (0, 1), (1, 2)
+>>> [home(pair)[0], [shows_home(pair, ('home', ((3, 1), (3, 1), zero, zero, half, zero, half, n))) for n in (2, 3)]]
+['home', [False, True]]
+>>> paper = ((3, 1), (3, 1), zero, zero, half, zero, half, 3)
+>>> [worth(pair, paper, (2, 2)), mean_change(pair, paper, (2, 2)), mean_change(pair, paper, (3, 0))]
+[(24, 1), (-1, 1), (-6, 1)]
+>>> climb = Book('\n'.join(rows + ends).replace('step 0 1 1/6\nstep 0 -1 2/3', 'step 0 1 2/3\nstep 0 -1 1/6'))
+>>> [home(climb)[0], [shows_home(climb, ('away', ('along', 'second', (b, 1), zero, half))) for b in (0, 1, 3, 4)]]
+['away', [False, True, True, False]]
+>>> grow = Book('book\ninside\nstep 1 0 1/3\nstep 0 1 1/3\nstep -1 0 1/6\nstep 0 -1 1/6\n' + '\n'.join(rows[6:] + ends))
+>>> [home(grow)[0], [shows_home(grow, ('away', ('inner', r, half))) for r in ((1, 3), half, (2, 3))]]
+['away', [False, True, True]]
+>>> top = ['book', 'inside', 'step -1 1 1/2', 'step 0 0 1/2', 'first', 'step 1 1 1/2', 'step 0 0 1/2']
+>>> lift = Book('\n'.join(top + ['second', 'step 1 0 1/8', 'step 0 -1 7/8', 'none', 'step 0 0 1']))
+>>> [home(lift)[0], [shows_home(lift, ('home', ((4, 1), (1, 1), (2, 1), (c, 1), half, zero, half, n))) for c, n in ((32, 6), (32, 5), (0, 6))]]
+['home', [True, False, False]]
+>>> shows_home(exchanged(lift), ('home', ((1, 1), (4, 1), (2, 1), zero, half, (32, 1), half, 6)))
+True
+"""
+
+SECTION_7 = r"""
+>>> from cornerdrifts.books import Book
+>>> from cornerdrifts.sides import goes, mean_beside, pace, share_beside, shares
+>>> inside = ['book', 'inside', 'step 1 0 1/8', 'step 0 1 1/8', 'step -1 0 3/8', 'step 0 -1 3/8']
+>>> first = ['first', 'step 1 0 1/8', 'step 0 1 1/8', 'step -1 0 3/4']
+>>> second, none = ['second', 'step 1 0 1/8', 'step 0 1 1/8', 'step 0 -1 3/4'], ['none', 'step 1 0 1/2', 'step 0 1 1/2']
+>>> calm = Book('\n'.join(inside + first + second + none))
+>>> [share_beside(calm, 'second'), pace(calm, 'second'), mean_beside(calm, 'second'), goes(calm)]
+[(2, 3), (-1, 2), (1, 2), ('home',)]
+>>> shares(calm, 'second', 4)
+((2, 3), (2, 9), (2, 27), (2, 81))
+>>> drawn = Book('\n'.join(inside + first + ['second', 'step 1 0 1/8', 'step 0 1 7/8'] + none))
+>>> [share_beside(drawn, 'second'), pace(drawn, 'second'), pace(drawn, 'first'), goes(drawn)]
+[(2, 3), (1, 2), (-1, 2), ('second', (1, 2))]
+>>> leaps = Book('\n'.join(inside + first + ['second', 'step 2 0 1/8', 'step 0 0 7/8'] + none))
+>>> [share_beside(leaps, 'second'), shares(leaps, 'second', 4), mean_beside(leaps, 'second')]
+[(1, 2), ((1, 2), (1, 6), (2, 9), (2, 27)), (1, 1)]
+"""
+
+SECTION_8 = r"""
+>>> from cornerdrifts.books import Book
+>>> from cornerdrifts.ways import at_time, legs, time_home
+>>> rows = ['book', 'inside', 'step 1 0 3/8', 'step -1 0 1/4', 'step 0 -1 3/8', 'first', 'step 1 0 1/4', 'step -1 0 1/2', 'step 0 1 1/4']
+>>> helped = Book('\n'.join(rows + ['second', 'step 1 0 1/2', 'step 0 -1 1/2', 'none', 'step 1 0 1/2', 'step 0 1 1/2']))
+>>> legs(helped, ((0, 1), (3, 1)))
+(((0, 1), (3, 1), (1, 8), (-3, 8), (8, 1)), ((1, 1), (0, 1), (-1, 10), (0, 1), (10, 1)))
+>>> [time_home(helped, place) for place in (((0, 1), (3, 1)), ((2, 1), (3, 1)), ((4, 1), (6, 1)), ((1, 3), (0, 1)))]
+[(18, 1), (38, 1), (76, 1), (10, 3)]
+>>> [at_time(helped, ((2, 1), (3, 1)), time) for time in ((0, 1), (4, 1), (8, 1), (13, 1), (38, 1), (99, 1))]
+[((2, 1), (3, 1)), ((5, 2), (3, 2)), ((3, 1), (0, 1)), ((5, 2), (0, 1)), ((0, 1), (0, 1)), ((0, 1), (0, 1))]
+>>> alone = Book(helped.text.replace('step 1 0 1/4\nstep -1 0 1/2\nstep 0 1 1/4', 'step 1 0 1/2\nstep -1 0 1/4\nstep 0 1 1/4'))
+>>> [legs(alone, ((2, 1), (3, 1)))[1], legs(alone, ((7, 1), (0, 1)))]
+[((3, 1), (0, 1), (1, 5), (0, 1), None), (((7, 1), (0, 1), (1, 5), (0, 1), None),)]
+"""
+
 SECTION_15 = r"""
 >>> from cornerdrifts.errors import BadPair, DriftError
 >>> [isinstance(BadPair(0), DriftError), BadPair((-1, 2)).value]
@@ -63,6 +123,15 @@ class Examples(unittest.TestCase):
 
     def test_section_5(self):
         self.check(SECTION_5, 12)
+
+    def test_section_6(self):
+        self.check(SECTION_6, 16)
+
+    def test_section_7(self):
+        self.check(SECTION_7, 12)
+
+    def test_section_8(self):
+        self.check(SECTION_8, 9)
 
     def test_section_15(self):
         self.check(SECTION_15, 2)

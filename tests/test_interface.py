@@ -2,7 +2,7 @@
 
 import inspect
 
-from cornerdrifts import books, drifts
+from cornerdrifts import books, drifts, home, sides, ways
 from tests.samples import Case, queue
 
 FUNCTIONS = {
@@ -13,6 +13,17 @@ FUNCTIONS = {
     drifts: {
         "drift": ["book", "region"], "turns": ["book"], "border": ["book"], "asked": ["book"],
         "does_come_home": ["book"],
+    },
+    home: {
+        "home": ["book"], "shows_home": ["book", "value"], "worth": ["book", "paper", "pair"],
+        "mean_change": ["book", "paper", "pair"],
+    },
+    sides: {
+        "share_beside": ["book", "side"], "pace": ["book", "side"], "shares": ["book", "side", "many"],
+        "mean_beside": ["book", "side"], "goes": ["book"],
+    },
+    ways: {
+        "legs": ["book", "place"], "time_home": ["book", "place"], "at_time": ["book", "place", "time"],
     },
 }
 

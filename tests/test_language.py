@@ -66,6 +66,20 @@ class Language(unittest.TestCase):
                         bound |= {item.targets[0].id for item in known if isinstance(item, ast.Assign)}
                         self.assertLessEqual({alias.name for alias in node.names}, bound, name)
 
+    def test_imported_names_are_used_and_keep_their_meaning(self):
+        for name, tree in trees():
+            imported = {alias.name for node in tree.body if isinstance(node, ast.ImportFrom) for alias in node.names}
+            loads, others = set(), set()
+            for node in ast.walk(tree):
+                if isinstance(node, ast.Name):
+                    (loads if isinstance(node.ctx, ast.Load) else others).add(node.id)
+                if isinstance(node, ast.arg):
+                    others.add(node.arg)
+                if isinstance(node, ast.FunctionDef):
+                    others.add(node.name)
+            self.assertLessEqual(imported, loads, name)
+            self.assertEqual(imported & others, set(), name)
+
     def test_no_barred_parts(self):
         for name, tree in trees():
             for node in ast.walk(tree):
