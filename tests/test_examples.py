@@ -103,6 +103,63 @@ SECTION_8 = r"""
 [((3, 1), (0, 1), (1, 5), (0, 1), None), (((7, 1), (0, 1), (1, 5), (0, 1), None),)]
 """
 
+SECTION_9 = r"""
+>>> from cornerdrifts.books import Book
+>>> from cornerdrifts.ticks import after, between, home_by, lasting, means_after
+>>> book = Book('book\ninside\nstep -1 0 1/2\nstep 0 -1 1/2\nfirst\nstep -1 0 1/2\nstep -1 1 1/2\nsecond\nstep 0 -1 1/2\nstep 1 -1 1/2\nnone\nstep 1 0 1/2\nstep 0 1 1/2')
+>>> [after(book, (1, 1), 0), after(book, (1, 1), 1)]
+[(((1, 1), (1, 1)),), (((0, 1), (1, 2)), ((1, 0), (1, 2)))]
+>>> after(book, (1, 1), 2)
+(((0, 0), (1, 2)), ((0, 1), (1, 4)), ((1, 0), (1, 4)))
+>>> [means_after(book, (2, 1), ticks) for ticks in (0, 1, 2)]
+[((2, 1), (1, 1)), ((3, 2), (1, 2)), ((3, 4), (1, 2))]
+>>> [home_by(book, (1, 1), 0, ticks) for ticks in (1, 2, 3, 4)]
+[(0, 1), (1, 2), (3, 4), (7, 8)]
+>>> [lasting(book, (1, 1), 0, ticks) for ticks in (0, 1, 3, 5)]
+[(0, 1), (1, 1), (5, 2), (23, 8)]
+>>> paper = ((1, 1), (1, 1), (0, 1), (0, 1), (1, 2), (0, 1), (1, 2), 1)
+>>> [between(book, (2, 1), paper, 1), between(book, (2, 1), paper, 5), between(book, (1, 0), paper, 5)]
+[((1, 1), (5, 1)), ((9, 4), (5, 1)), ((0, 1), (0, 1))]
+"""
+
+SECTION_10 = r"""
+>>> from cornerdrifts.books import Book
+>>> from cornerdrifts.changes import home_amounts, moved
+>>> rows = ['inside', 'step 1 0 1/8', 'step 0 1 1/8', 'step -1 0 3/8', 'step 0 -1 3/8']
+>>> rows = ['book'] + rows + ['first', 'step 1 0 1/8', 'step 0 1 1/8', 'step -1 0 3/4']
+>>> rows = rows + ['second', 'step 1 0 1/8', 'step 0 1 1/8', 'step 0 -1 3/4', 'none', 'step 1 0 1/8', 'step 0 1 1/8', 'step 0 0 3/4']
+>>> pair = Book('\n'.join(rows))
+>>> moved(pair, 'none', (0, 0), (1, 0), (1, 4)).text.split('\n')[14:]
+['none', 'step 1 0 3/8', 'step 0 1 1/8', 'step 0 0 1/2']
+>>> moved(pair, 'inside', (0, -1), (-1, -1), (3, 8)).inside
+((1, 0, (1, 8)), (0, 1, (1, 8)), (-1, 0, (3, 8)), (-1, -1, (3, 8)))
+>>> home_amounts(pair, 'inside', (-1, 0), (1, 0))
+(((0, 1), (1, 8), True, False), ((1, 8), (3, 8), False, True))
+>>> home_amounts(pair, 'second', (0, -1), (0, 1))
+(((0, 1), (3, 8), True, False),)
+>>> [home_amounts(pair, 'first', (-1, 0), (0, 1)), moved(pair, 'first', (-1, 0), (0, 1), (0, 1)) == pair]
+[(((0, 1), (3, 4), True, True),), True]
+"""
+
+SECTION_11 = r"""
+>>> from cornerdrifts.drifts import does_come_home, turns
+>>> from cornerdrifts.makes import handed_on, load_of_hand, loads, one_hand, two_hands
+>>> a, b, m, e, g = (1, 6), (1, 6), (2, 3), (1, 1), (1, 2)
+>>> one_hand(a, b, m, e, g, (3, 4)).inside
+((1, 0, (1, 6)), (0, 1, (1, 6)), (-1, 0, (1, 2)), (0, -1, (1, 12)), (0, 0, (1, 12)))
+>>> [one_hand(a, b, m, e, g, (3, 4)).first, one_hand(a, b, m, e, g, (3, 4)).none]
+[((1, 0, (1, 6)), (0, 1, (1, 6)), (-1, 0, (2, 3))), ((1, 0, (1, 6)), (0, 1, (1, 6)), (0, 0, (2, 3)))]
+>>> [load_of_hand(a, b, m, e, g), [does_come_home(one_hand(a, b, m, e, g, share)) for share in ((0, 1), (3, 4), (1, 1))]]
+[(3, 4), [True, True, True]]
+>>> two_hands((1, 5), (1, 10), (3, 10), (2, 5), (1, 2)).first
+((1, 0, (1, 5)), (0, 1, (1, 10)), (-1, 0, (1, 2)), (0, 0, (1, 5)))
+>>> told = ((1, 10), (1, 10), (2, 5), (2, 5), (1, 2), (1, 4))
+>>> handed_on(*told).second
+((1, 0, (1, 10)), (0, 1, (1, 10)), (1, -1, (1, 10)), (0, -1, (3, 10)), (0, 0, (2, 5)))
+>>> [loads(*told), turns(handed_on(*told)), does_come_home(handed_on(*told))]
+[((5, 14), (3, 7)), ((-9, 100), (-2, 25)), True]
+"""
+
 SECTION_15 = r"""
 >>> from cornerdrifts.errors import BadPair, DriftError
 >>> [isinstance(BadPair(0), DriftError), BadPair((-1, 2)).value]
@@ -132,6 +189,15 @@ class Examples(unittest.TestCase):
 
     def test_section_8(self):
         self.check(SECTION_8, 9)
+
+    def test_section_9(self):
+        self.check(SECTION_9, 10)
+
+    def test_section_10(self):
+        self.check(SECTION_10, 11)
+
+    def test_section_11(self):
+        self.check(SECTION_11, 10)
 
     def test_section_15(self):
         self.check(SECTION_15, 2)

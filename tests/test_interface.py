@@ -2,7 +2,7 @@
 
 import inspect
 
-from cornerdrifts import books, drifts, home, sides, ways
+from cornerdrifts import books, changes, drifts, home, makes, sides, ticks, ways
 from tests.samples import Case, queue
 
 FUNCTIONS = {
@@ -24,6 +24,20 @@ FUNCTIONS = {
     },
     ways: {
         "legs": ["book", "place"], "time_home": ["book", "place"], "at_time": ["book", "place", "time"],
+    },
+    ticks: {
+        "after": ["book", "pair", "ticks"], "means_after": ["book", "pair", "ticks"],
+        "home_by": ["book", "pair", "corner", "ticks"], "lasting": ["book", "pair", "corner", "ticks"],
+        "between": ["book", "pair", "paper", "ticks"],
+    },
+    changes: {
+        "moved": ["book", "region", "step", "other", "amount"],
+        "home_amounts": ["book", "region", "step", "other"],
+    },
+    makes: {
+        "one_hand": ["a", "b", "m", "e", "g", "share"], "load_of_hand": ["a", "b", "m", "e", "g"],
+        "two_hands": ["a", "b", "m", "k", "aid"], "handed_on": ["a", "b", "m", "k", "p", "q"],
+        "loads": ["a", "b", "m", "k", "p", "q"],
     },
 }
 
