@@ -57,7 +57,7 @@ def negative(fraction):
 
 
 def power(base, exponent):
-    """The power of a base above 0; the exponent is any integer."""
+    """The power of a base from 0 on; the exponent is any integer, from 0 on if the base is 0."""
     top, bottom = base if exponent >= 0 else (base[1], base[0])
     power_top, power_bottom = 1, 1
     for _ in range(abs(exponent)):

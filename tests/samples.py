@@ -4,7 +4,9 @@ from fractions import Fraction
 from random import Random
 from unittest import TestCase
 
+from cornerdrifts.bench import Bench
 from cornerdrifts.books import REGIONS, Book
+from cornerdrifts.desk import Desk
 from cornerdrifts.errors import BadPair, DriftError
 
 # The book of the examples in section 4 of the document.
@@ -38,7 +40,8 @@ def any_values():
         (None, None), ("1", "2"), ("1", 2), (1, "2"), ([1], [2]), ([1], 2), (1, [2]), ((1, 2), (1, 2)), ((1, 2), 3),
         (1, (2, 3)), (True, 1), (1, True), (True, True), (True, 2), (False, 1), (1, False), (None, 1), (1, None),
         (-1, True), ({}, 1), (1, {}), deep(30), (deep(29), 1), (1, deep(29)), queue(), (queue(), 1), (1, queue()),
-        BadPair((1, 2)), DriftError(1), (DriftError(1), 2),
+        BadPair((1, 2)), DriftError(1), (DriftError(1), 2), Bench(QUEUE_TEXT), (Bench(QUEUE_TEXT), 1),
+        Desk("bench\n" + QUEUE_TEXT), (1, Desk("bench\n" + QUEUE_TEXT)),
     ]
 
 

@@ -160,6 +160,70 @@ SECTION_11 = r"""
 [((5, 14), (3, 7)), ((-9, 100), (-2, 25)), True]
 """
 
+SECTION_12 = r"""
+>>> from cornerdrifts.makes import handed_on
+>>> from cornerdrifts.products import balance, is_steady, product_of_loads, whole
+>>> chances = ((1, 8), (1, 8), (3, 8), (3, 8), (0, 1), (0, 1))
+>>> table = product_of_loads(*chances)
+>>> table
+(((4, 9), (1, 3), (1, 3)), ((4, 9), (1, 3)), ((4, 9), (1, 3)), (4, 9))
+>>> book = handed_on(*chances)
+>>> [whole(table), is_steady(book, table), balance(book, table, (0, 0)), balance(book, table, (40, 7))]
+[(1, 1), ('steady',), (0, 1), (0, 1)]
+>>> less = (table[0], table[1], table[2], (1, 9))
+>>> [whole(less), is_steady(book, less), balance(book, less, (0, 0)), balance(book, less, (1, 1)), balance(book, less, (0, 1))]
+[(2, 3), ('off', (0, 0)), (1, 12), (0, 1), (-1, 24)]
+>>> product_of_loads((1, 8), (1, 8), (3, 8), (3, 8), (1, 1), (0, 1))[0]
+((2, 9), (1, 3), (2, 3))
+"""
+
+SECTION_13 = r"""
+>>> from cornerdrifts.bench import Bench
+>>> bench = Bench('book\ninside\nstep -1 0 1/2\nstep 0 -1 1/2\nfirst\nstep -1 0 1/2\nstep -1 1 1/2\nsecond\nstep 0 -1 1/2\nstep 1 -1 1/2\nnone\nstep 1 0 1/2\nstep 0 1 1/2')
+>>> [bench.told, bench.done, len(bench.book)]
+['home', 0, 8]
+>>> bench.put('first', (-1, 0), (1, 0), (1, 2))
+>>> [bench.told, bench.book.first]
+['home', ((-1, 1, (1, 2)), (1, 0, (1, 2)))]
+>>> bench.put('first', (-1, 1), (1, 0), (1, 6))
+>>> [bench.told, bench.book.first]
+['border', ((-1, 1, (1, 3)), (1, 0, (2, 3)))]
+>>> bench.put('first', (-1, 1), (1, 0), (1, 12))
+>>> [bench.told, bench.book.first]
+['away', ((-1, 1, (1, 4)), (1, 0, (3, 4)))]
+>>> bench.turn()
+>>> [bench.told, bench.book.second, bench.book.none]
+['away', ((1, -1, (1, 4)), (0, 1, (3, 4))), ((0, 1, (1, 2)), (1, 0, (1, 2)))]
+>>> bench.slow((1, 2))
+>>> [bench.told, bench.book.inside, bench.done]
+['away', ((0, -1, (1, 4)), (-1, 0, (1, 4)), (0, 0, (1, 2))), 5]
+>>> bench.undo()
+>>> bench.undo()
+>>> bench.undo()
+>>> [bench.told, bench.done, bench.book.first]
+['border', 2, ((-1, 1, (1, 3)), (1, 0, (2, 3)))]
+"""
+
+SECTION_14 = r"""
+>>> from cornerdrifts.desk import Desk
+>>> from cornerdrifts.journals import journal, read_journal
+>>> rows = ['inside', 'step 1 0 1/5', 'step -1 1 1/2', 'step 0 -1 3/10', 'first', 'step 1 0 1/5', 'step -1 1 1/2', 'step 0 0 3/10']
+>>> lines = ['bench', 'book'] + rows + ['second', 'step 1 0 1/5', 'step 0 -1 3/10', 'step 0 0 1/2', 'none', 'step 1 0 1/5', 'step 0 0 4/5']
+>>> desk = Desk('\n'.join(lines))
+>>> [desk.say(line) for line in ('told', 'border', 'drift inside', 'turns', 'goes')]
+['home', 'plain', '-3/10 1/5', '-9/100 -1/20', 'home']
+>>> [desk.say(line) for line in ('put second 0 -1 0 0 1/4', 'drift second', 'turns', 'told', 'goes')]
+['ok', '1/5 -1/20', '-9/100 1/40', 'away', 'second 1/20']
+>>> [desk.say(line) for line in ('turn', 'slow 1/2', 'drift inside', 'told', 'undo', 'drift inside')]
+['ok', 'ok', '1/10 -3/20', 'away', 'ok', '1/5 -3/10']
+>>> journal(desk.bench).split('\n')[len(lines):]
+['put second 0 -1 0 0 1/4', 'turn']
+>>> read_journal(journal(desk.bench)) == desk.bench
+True
+>>> desk.say('book')[:40]
+'book;inside;step 0 1 1/5;step 1 -1 1/2;s'
+"""
+
 SECTION_15 = r"""
 >>> from cornerdrifts.errors import BadPair, DriftError
 >>> [isinstance(BadPair(0), DriftError), BadPair((-1, 2)).value]
@@ -198,6 +262,15 @@ class Examples(unittest.TestCase):
 
     def test_section_11(self):
         self.check(SECTION_11, 10)
+
+    def test_section_12(self):
+        self.check(SECTION_12, 10)
+
+    def test_section_13(self):
+        self.check(SECTION_13, 17)
+
+    def test_section_14(self):
+        self.check(SECTION_14, 11)
 
     def test_section_15(self):
         self.check(SECTION_15, 2)
